@@ -1,0 +1,137 @@
+"""The package's files keep to the part of the language that can be seen line by line."""
+
+import ast
+import os
+import re
+import unittest
+
+HERE = os.path.dirname(os.path.abspath(__file__))
+PACKAGE = os.path.join(os.path.dirname(HERE), "earlystop")
+MOST_FILE_LINES = 400
+MOST_DEF_LINES = 40
+MOST_SIGNS = 120
+NODES = set("""
+    Module FunctionDef ClassDef arguments arg Lambda Assign AugAssign If While For Return Break Continue Pass Raise Try
+    ExceptHandler Expr ImportFrom alias Constant Name Load Store List Tuple Dict Set ListComp comprehension BinOp UnaryOp
+    BoolOp Compare IfExp Call Attribute Subscript Slice keyword JoinedStr FormattedValue Add Sub Mult FloorDiv Mod Pow
+    BitAnd BitOr BitXor LShift RShift Invert USub UAdd Not And Or Eq NotEq Lt LtE Gt GtE Is IsNot In NotIn
+""".split())
+BUILTINS = set("""
+    len range enumerate zip min max sum abs sorted reversed int str bool list tuple dict set frozenset isinstance ord repr
+    any all divmod Exception ValueError TypeError KeyError IndexError LookupError ZeroDivisionError ArithmeticError
+    OverflowError RuntimeError NotImplementedError AttributeError StopIteration
+""".split())
+PYTHONS_OWN = set(dir(__builtins__) if not isinstance(__builtins__, dict) else __builtins__)
+METHODS = set("""
+    append clear copy count endswith extend find get index insert isalnum isalpha isdigit islower isspace isupper items
+    join keys ljust lower lstrip partition pop remove replace reverse rfind rjust rpartition rsplit rstrip setdefault split
+    splitlines startswith strip update upper values zfill bit_length
+""".split())
+PYTHONS_METHODS = set(dir("") + dir(0) + dir([]) + dir({}) + dir(()) + dir(set()) + dir(b""))
+DUNDERS = {"__init__", "__eq__", "__repr__", "__str__", "__len__"}
+WORDS = re.compile(
+    r"\b(type|typing|typing_extensions|enum|Enum|IntEnum|StrEnum|Flag|IntFlag|Generic|Protocol|ABC|ABCMeta|namedtuple"
+    r"|NamedTuple|TypedDict|TYPE_CHECKING|abstractmethod)\b|dataclass|overload|contextmanager")
+
+
+def package_files():
+    return sorted(name for name in os.listdir(PACKAGE) if name != "__pycache__")
+
+
+def text_of(name):
+    with open(os.path.join(PACKAGE, name), encoding="utf-8") as file:
+        return file.read()
+
+
+def named(node):
+    """The names that a node binds or reads."""
+    if isinstance(node, ast.Name):
+        return [node.id]
+    if isinstance(node, ast.arg):
+        return [node.arg]
+    if isinstance(node, ast.Attribute):
+        return [node.attr]
+    if isinstance(node, (ast.FunctionDef, ast.ClassDef)):
+        return [node.name]
+    return []
+
+
+def bound(node):
+    if isinstance(node, ast.Name) and isinstance(node.ctx, ast.Store):
+        return [node.id]
+    return [node.arg] if isinstance(node, ast.arg) else []
+
+
+class Form(unittest.TestCase):
+    def each_node(self):
+        for name in package_files():
+            for node in ast.walk(ast.parse(text_of(name))):
+                yield f"{name}:{getattr(node, 'lineno', 0)}", node
+
+    def test_files(self):
+        self.assertIn("__init__.py", package_files())
+        for name in package_files():
+            self.assertRegex(name, r"^(__init__|__main__|[a-z][a-z0-9_]*)\.py$")
+
+    def test_lines(self):
+        for name in package_files():
+            text = text_of(name)
+            self.assertRegex(text, r"^[ -~\n]*$", name)
+            self.assertLessEqual(text.count("\n"), MOST_FILE_LINES, name)
+            self.assertIsNone(WORDS.search(text), name)
+            for line in text.split("\n"):
+                self.assertLessEqual(len(line), MOST_SIGNS, name)
+
+    def test_nodes(self):
+        for where, node in self.each_node():
+            self.assertIn(node.__class__.__name__, NODES, where)
+            if isinstance(node, ast.Constant):
+                self.assertIsInstance(node.value, (int, str, type(None)), where)
+                self.assertFalse(isinstance(node.value, str) and "\x25" in node.value, where)
+            if isinstance(node, ast.Assign):
+                self.assertEqual(len(node.targets), 1, where)
+            if isinstance(node, (ast.For, ast.While)):
+                self.assertEqual(node.orelse, [], where)
+            if isinstance(node, ast.Try):
+                self.assertEqual(node.finalbody, [], where)
+            if isinstance(node, ast.ListComp):
+                self.assertEqual(len(node.generators), 1, where)
+                self.assertLessEqual(len(node.generators[0].ifs), 1, where)
+            if isinstance(node, ast.BinOp) and isinstance(node.op, ast.Pow):
+                self.assertIsInstance(node.right, ast.Constant, where)
+                self.assertTrue(0 <= node.right.value <= 64, where)
+
+    def test_defs_and_classes(self):
+        for where, node in self.each_node():
+            if isinstance(node, ast.FunctionDef):
+                self.assertLessEqual(node.end_lineno - node.lineno + 1, MOST_DEF_LINES, where)
+                self.assertEqual(node.decorator_list, [], where)
+                self.assertIsNone(node.args.vararg or node.args.kwarg, where)
+                self.assertEqual(node.args.kwonlyargs + node.args.posonlyargs, [], where)
+            if isinstance(node, ast.ClassDef):
+                self.assertEqual((node.decorator_list, node.keywords), ([], []), where)
+                self.assertLessEqual(len(node.bases), 1, where)
+                for inner in node.body:
+                    self.assertIsInstance(inner, (ast.FunctionDef, ast.Pass), where)
+
+    def test_imports(self):
+        for where, node in self.each_node():
+            if isinstance(node, ast.ImportFrom):
+                self.assertEqual(node.level, 0, where)
+                self.assertRegex(node.module, r"^earlystop\.[a-z0-9_]+$", where)
+                self.assertNotIn("*", [alias.name for alias in node.names], where)
+
+    def test_names(self):
+        for where, node in self.each_node():
+            for name in named(node):
+                self.assertTrue(name in DUNDERS or re.match(r"^[A-Za-z][A-Za-z0-9_]*$", name), where)
+            for name in bound(node):
+                self.assertNotIn(name, PYTHONS_OWN, where)
+            if isinstance(node, ast.Name) and node.id in PYTHONS_OWN:
+                self.assertIn(node.id, BUILTINS, where)
+            if isinstance(node, ast.Attribute) and node.attr in PYTHONS_METHODS:
+                self.assertIn(node.attr, METHODS | DUNDERS, where)
+
+
+if __name__ == "__main__":
+    unittest.main()
