@@ -9,14 +9,12 @@ from earlystop.fractions import (
     fraction, is_fraction, is_less, is_share, least_place, less, over, plus, read_fraction, shown_fraction, times,
     total,
 )
+from cases import Case
+from samples import pair
 from things import ODD_THINGS
 
 SIXTY = 10 ** 60 - 1
 GREAT = 10 ** 4000 - 1
-
-
-def pair(value):
-    return (value.numerator, value.denominator)
 
 
 def some_fractions():
@@ -26,15 +24,6 @@ def some_fractions():
             if gcd(n, d) == 1:
                 found.append((n, d))
     return found + [(SIXTY, SIXTY - 1), (-SIXTY, 2 ** 190), (1, SIXTY), (7, 10 ** 59), (-(3 ** 120), 2 ** 150)]
-
-
-class Case(unittest.TestCase):
-    def assertTold(self, told, asked):
-        """The very value, of just these kinds: True is no 1, a list is no tuple."""
-        self.assertEqual(told, asked)
-        self.assertIs(type(told), type(asked))
-        if isinstance(asked, tuple):
-            self.assertEqual([type(part) for part in told], [type(part) for part in asked])
 
 
 class Kinds(Case):
