@@ -81,6 +81,10 @@ def one_more(counts, face):
     return counts[:face] + (counts[face] + 1,) + counts[face + 1:]
 
 
+def one_less(counts, face):
+    return counts[:face] + (counts[face] - 1,) + counts[face + 1:]
+
+
 def ones_more(counts):
     return [one_more(counts, face) for face in range(len(counts))]
 
