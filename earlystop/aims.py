@@ -1,6 +1,6 @@
 """Aims and prices of a trial."""
 
-from earlystop.kinds import are_from_nought, are_parts, are_shares, is_tuple_of
+from earlystop.kinds import NOUGHT, are_from_nought, are_parts, are_shares, is_tuple_of
 from earlystop.trials import ways_of
 from earlystop.wholes import is_whole
 
@@ -14,3 +14,7 @@ def is_aim(trial, thing):
 
 def are_prices(trial, thing):
     return are_from_nought(thing, ways_of(trial))
+
+
+def without_costs(aim):
+    return (aim[0], aim[1], aim[2], tuple([NOUGHT for one in aim[3]]))

@@ -5,6 +5,7 @@ from earlystop.kinds import ONE, are_parts, is_tuple_of
 from earlystop.looks import is_counts, noughts, ones_more
 
 MOST_COUNTS = 8
+LOOKS_ON = 0
 
 
 def are_says(ways, thing):
@@ -12,7 +13,7 @@ def are_says(ways, thing):
 
 
 def looks_on(says):
-    return says[0][0] > 0
+    return says[LOOKS_ON][0] > 0
 
 
 def is_rule(faces, ways, thing):

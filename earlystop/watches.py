@@ -4,9 +4,7 @@ from earlystop.errors import NoBack, NoLook
 from earlystop.fractions import is_less, is_share, plus
 from earlystop.kinds import ONE
 from earlystop.looks import is_face, noughts, one_more
-from earlystop.rules import rule_faces
-
-LOOKS_ON = 0
+from earlystop.rules import LOOKS_ON, rule_faces
 
 
 class Watch:

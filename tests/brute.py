@@ -1,6 +1,9 @@
-"""What is told of a rule, by walking every row of looks, each by itself."""
+"""What is told of a rule, by walking every row of looks, each by itself; and worths by the document's words."""
 
+import itertools
 from fractions import Fraction
+
+from samples import pair
 
 
 def value(one):
@@ -73,3 +76,48 @@ def amounts(rule):
 
     walk((), Fraction(1))
     return found
+
+
+def cost(trial, rule, aim):
+    costs = [value(one) for one in aim[3]]
+    return sum((value(aim[2][way]) * spent(trial, rule, way, costs) for way in range(len(trial[1]))), Fraction(0))
+
+
+def priced(trial, rule, aim, prices):
+    return cost(trial, rule, aim) + sum(value(price) * share for price, share in zip(prices, wrong(trial, rule)))
+
+
+def weigh(trial, way, counts):
+    product = Fraction(1)
+    for share, count in zip(trial[1][way][1], counts):
+        product *= value(share) ** count
+    return product
+
+
+def sums(trial, aim, prices, counts, worth):
+    """By the words of the document: stopping with each way, then looking on, by what worth tells of counts behind."""
+    most, bounds, mix, costs = aim
+    ways = range(len(trial[1]))
+    dues = [value(prices[way]) * weigh(trial, way, counts) for way in ways]
+    found = [sum(dues[w] for w in ways if w != v) for v in ways]
+    if sum(counts) < most:
+        met = sum(value(mix[way]) * weigh(trial, way, counts) for way in ways)
+        more = [tuple(c + (k == face) for k, c in enumerate(counts)) for face in range(len(counts))]
+        found.append(met * value(costs[sum(counts)]) + sum(worth(one) for one in more))
+    return found
+
+
+def rising(faces, most):
+    found = [counts for counts in itertools.product(range(most + 1), repeat=faces) if sum(counts) <= most]
+    return sorted(found, key=lambda counts: (sum(counts), counts))
+
+
+def worths(trial, aim, prices):
+    found = {}
+
+    def worth(counts):
+        if counts not in found:
+            found[counts] = min(sums(trial, aim, prices, counts, worth))
+        return found[counts]
+
+    return tuple((counts, pair(Fraction(worth(counts)))) for counts in rising(len(trial[0]), aim[0]))

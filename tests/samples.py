@@ -47,6 +47,11 @@ def random_trial(rng, faces, ways):
     return (tuple("abcd"[:faces]), tuple(("stuv"[way], random_parts(rng, faces)) for way in range(ways)))
 
 
+def turn_trial(rng, turn):
+    """A written trial at odd turns, one made by chance at even ones."""
+    return TRIALS[turn % len(TRIALS)] if turn % 2 else random_trial(rng, rng.randint(2, 4), rng.randint(2, 4))
+
+
 def random_aim(rng, trial, most):
     ways = len(trial[1])
     bounds = tuple(pair(Fraction(rng.randint(0, 8), 8)) for way in range(ways))

@@ -2,7 +2,6 @@
 
 import random
 import unittest
-from fractions import Fraction
 
 import brute
 from earlystop.looks import all_counts
@@ -11,37 +10,11 @@ from earlystop.worths import priced, worths
 from brute import value
 from cases import Case
 from rulesamples import FIRST, ON, SECOND, all_plain_rules, random_rule
-from samples import COINS, DICE, SUITS, SURE, TRIALS, TWINS, one_at, pair, random_aim, random_prices, random_trial, sizes
+from samples import COINS, DICE, SUITS, SURE, TRIALS, TWINS, one_at, pair, random_aim, random_prices, sizes, turn_trial
 
 HALVES = ((1, 2), (1, 2))
 ANY_BOUNDS = ((1, 9), (2, 9))
 ONE_LOOK = (((0, 0), ON), ((0, 1), SECOND), ((1, 0), FIRST))
-
-
-def asked_worths(trial, aim, prices):
-    """By the words of the document, counts by counts, with Python's own fractions."""
-    most, bounds, mix, costs = aim
-    faces, ways = sizes(trial)
-    found = {}
-
-    def weigh(way, counts):
-        product = Fraction(1)
-        for face in range(faces):
-            product *= value(trial[1][way][1][face]) ** counts[face]
-        return product
-
-    def worth(counts):
-        if counts not in found:
-            dues = [value(prices[way]) * weigh(way, counts) for way in range(ways)]
-            sums = [sum(dues[w] for w in range(ways) if w != v) for v in range(ways)]
-            if sum(counts) < most:
-                met = sum(value(mix[way]) * weigh(way, counts) for way in range(ways))
-                more = [tuple(c + (k == face) for k, c in enumerate(counts)) for face in range(faces)]
-                sums.append(met * value(costs[sum(counts)]) + sum(worth(one) for one in more))
-            found[counts] = min(sums)
-        return found[counts]
-
-    return tuple((counts, pair(Fraction(worth(counts)))) for counts in all_counts(faces, most))
 
 
 class Worths(Case):
@@ -73,10 +46,10 @@ class Worths(Case):
     def test_by_the_words(self):
         rng = random.Random(70)
         for k in range(60):
-            trial = TRIALS[k % len(TRIALS)] if k % 2 else random_trial(rng, rng.randint(2, 4), rng.randint(2, 4))
+            trial = turn_trial(rng, k)
             aim = random_aim(rng, trial, rng.randint(0, 3))
             prices = random_prices(rng, trial)
-            self.assertTold(worths(trial, aim, prices), asked_worths(trial, aim, prices))
+            self.assertTold(worths(trial, aim, prices), brute.worths(trial, aim, prices))
 
     def test_prices_and_costs_of_nought(self):
         for trial in TRIALS:
@@ -85,7 +58,7 @@ class Worths(Case):
             nothing = ((0, 1),) * ways
             self.assertTold(worths(trial, aim, nothing), tuple((counts, (0, 1)) for counts in all_counts(faces, 2)))
             for prices in [((1, 1),) * ways, one_at(ways, 0), one_at(ways, ways - 1)]:
-                self.assertTold(worths(trial, aim, prices), asked_worths(trial, aim, prices))
+                self.assertTold(worths(trial, aim, prices), brute.worths(trial, aim, prices))
 
     def test_the_greatest_aims(self):
         rng = random.Random(71)
@@ -94,7 +67,7 @@ class Worths(Case):
             prices = random_prices(rng, trial)
             told = worths(trial, aim, prices)
             self.assertEqual([counts for counts, worth in told], all_counts(len(trial[0]), most))
-            self.assertTold(told, asked_worths(trial, aim, prices))
+            self.assertTold(told, brute.worths(trial, aim, prices))
 
     def test_bounds_change_nothing(self):
         prices = ((4, 1), (9, 2))
@@ -103,12 +76,6 @@ class Worths(Case):
 
 
 class Priced(Case):
-    def asked(self, trial, rule, aim, prices):
-        costs = [value(one) for one in aim[3]]
-        spent = [value(aim[2][way]) * brute.spent(trial, rule, way, costs) for way in range(len(trial[1]))]
-        wrong = [value(price) * share for price, share in zip(prices, brute.wrong(trial, rule))]
-        return pair(Fraction(sum(spent) + sum(wrong)))
-
     def test_by_hand(self):
         aim = (1, ANY_BOUNDS, HALVES, ((1, 2),))
         self.assertTold(priced(COINS, ONE_LOOK, aim, ((6, 1), (6, 1))), (5, 1))
@@ -119,16 +86,16 @@ class Priced(Case):
     def test_against_all_rows(self):
         rng = random.Random(72)
         for k in range(60):
-            trial = TRIALS[k % len(TRIALS)] if k % 2 else random_trial(rng, rng.randint(2, 4), rng.randint(2, 4))
+            trial = turn_trial(rng, k)
             most = rng.randint(0, 3)
             rule = random_rule(rng, *sizes(trial), most, k % 3 > 0)
             aim, prices = random_aim(rng, trial, most), random_prices(rng, trial)
-            self.assertTold(priced(trial, rule, aim, prices), self.asked(trial, rule, aim, prices))
+            self.assertTold(priced(trial, rule, aim, prices), pair(brute.priced(trial, rule, aim, prices)))
 
     def test_never_below_the_worth_of_the_noughts(self):
         rng = random.Random(73)
         for k in range(120):
-            trial = TRIALS[k % len(TRIALS)] if k % 2 else random_trial(rng, rng.randint(2, 4), rng.randint(2, 4))
+            trial = turn_trial(rng, k)
             most = rng.randint(0, 3)
             aim, prices = random_aim(rng, trial, most), random_prices(rng, trial)
             least = value(worths(trial, aim, prices)[0][1])
